@@ -1,0 +1,1 @@
+"""Oddsquares: squares and rectangles on closed fences."""

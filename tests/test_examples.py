@@ -1,0 +1,65 @@
+"""Every example of the document, as it is written there: tests/examples has one file for each section."""
+
+import importlib
+import os
+import unittest
+
+FOLDER = os.path.join(os.path.dirname(os.path.abspath(__file__)), "examples")
+# In the order of the document: an example uses the names that earlier ones made last.
+MODULES = ("errors", "checks", "papers", "exact", "points", "fences")
+
+
+def read_examples(section):
+    """The list of (line number, what is run, the line that is told for it or None)."""
+    path = os.path.join(FOLDER, section + ".txt")
+    if not os.path.exists(path):
+        return []
+    examples = []
+    with open(path, encoding="ascii") as lines:
+        for number, line in enumerate(lines.read().splitlines(), 1):
+            if line.startswith(">>> "):
+                examples.append([number, line[4:], None])
+            else:
+                assert examples[-1][2] is None, "an example answers with one line"
+                examples[-1][2] = line
+    return examples
+
+
+def names_of_the_package():
+    names = {}
+    for module in MODULES:
+        names.update(vars(importlib.import_module("oddsquares." + module)))
+    return names
+
+
+class ExamplesTest(unittest.TestCase):
+    def check_error(self, source, told, names):
+        kind = names[told.partition("(")[0]]
+        with self.assertRaises(kind) as caught:
+            exec(source, names)
+        self.assertIs(type(caught.exception), kind)
+        if "(" in told:
+            self.assertEqual(vars(caught.exception), vars(eval(told, names)))
+
+    def check_example(self, source, told, names):
+        if told is None:
+            exec(source, names)
+        elif told.startswith("raises "):
+            self.check_error(source, told.removeprefix("raises "), names)
+        else:
+            self.assertEqual(repr(eval(source, names)), told)
+
+    def test_examples(self):
+        names = names_of_the_package()
+        for section in MODULES:
+            for number, source, told in read_examples(section):
+                with self.subTest(section=section, line=number):
+                    self.check_example(source, told, names)
+
+    def test_each_section_has_examples(self):
+        # The section of the errors is the only one without any.
+        self.assertEqual([section for section in MODULES if not read_examples(section)], ["errors"])
+
+
+if __name__ == "__main__":
+    unittest.main()

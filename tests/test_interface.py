@@ -1,0 +1,58 @@
+"""The names, arguments and places of the interface, as the document lists them."""
+
+import importlib
+import inspect
+import unittest
+
+PARTS = {name: "part" for name in ("BadNumber", "BadPoint", "BadText", "BadFence", "BadLot", "BadRatio", "BadSides", "BadFilm",
+                                   "BadEars", "BadPaper", "Misfit")}
+# For each file its functions and classes with their parameters, and under "Class.method" the methods that are listed.
+INTERFACE = {
+    "errors": dict(PARTS, NoFence="why", NoLot="why", NoFilm="word fence side", TooMany="what most", BadLine="line word"),
+    "checks": {"is_integer": "value", "is_within": "value least most", "is_number": "value", "is_point": "value",
+               "are_points": "value least most"},
+    "papers": {"Paper": "word *parts", "Denial": "word *parts", "fixed": "value", "Paper.__eq__": "other"},
+    "exact": {"number": "top under=1", "plus": "one other", "minus": "one other", "times": "one other", "over": "one other",
+              "is_less": "one other", "sign_of": "value", "number_text": "value", "read_number": "text"},
+    "points": {"point": "x y", "added": "one other", "taken": "one other", "scaled": "vector factor", "quarter": "vector",
+               "cross": "one other", "dot": "one other", "squared": "one other", "between": "one other share",
+               "point_text": "value", "read_point": "text"},
+    "fences": {"Closed": "is_left", "Short": "side", "Back": "corner", "Meets": "one other point", "judged_corners": "corners",
+               "Fence": "corners", "Fence.where": "point", "Fence.__contains__": "point", "Fence.__len__": "",
+               "Fence.__eq__": "other"},
+}
+
+
+def parameters_of(value):
+    return " ".join(str(told) for told in inspect.signature(value).parameters.values() if told.name != "self")
+
+
+class InterfaceTest(unittest.TestCase):
+    def check_method(self, module, name, parameters):
+        kind, method = name.split(".")
+        told = vars(getattr(module, kind))
+        self.assertIn(method, told)
+        self.assertEqual(parameters_of(told[method]), parameters)
+
+    def test_interface(self):
+        for file, names in INTERFACE.items():
+            module = importlib.import_module("oddsquares." + file)
+            for name, parameters in names.items():
+                with self.subTest(file=file, name=name):
+                    if "." in name:
+                        self.check_method(module, name, parameters)
+                        continue
+                    value = getattr(module, name)
+                    self.assertEqual(value.__module__, module.__name__)
+                    self.assertEqual(parameters_of(value), parameters)
+
+    def test_each_class_is_made_in_its_own_body(self):
+        for file, names in INTERFACE.items():
+            module = importlib.import_module("oddsquares." + file)
+            for name in names:
+                if name[0].isupper() and "." not in name:
+                    self.assertIn("__init__", vars(getattr(module, name)), name)
+
+
+if __name__ == "__main__":
+    unittest.main()
