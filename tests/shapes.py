@@ -101,3 +101,13 @@ def comb(teeth):
     for k in range(teeth - 1, -1, -1):
         corners += [(2 * k + 1, 9), (2 * k + 1, 1)]
     return [(0, 0)] + corners
+
+
+def cell(x, y, size=4):
+    """The corners of a square with this lower left corner."""
+    return ((x, y), (x + size, y), (x + size, y + size), (x, y + size))
+
+
+def nested(many):
+    """As many squares, each but the first within the one ahead of it."""
+    return [cell(k, k, 20 - 2 * k) for k in range(many)]

@@ -20,6 +20,16 @@ INTERFACE = {
     "fences": {"Closed": "is_left", "Short": "side", "Back": "corner", "Meets": "one other point", "judged_corners": "corners",
                "Fence": "corners", "Fence.where": "point", "Fence.__contains__": "point", "Fence.__len__": "",
                "Fence.__eq__": "other"},
+    "lots": {"Apart": "", "Cross": "one other point", "judged_fences": "fences", "Lot": "fences", "Lot.side": "at",
+             "Lot.within": "fence", "Lot.innermost": "numbers", "Lot.only": "numbers", "Lot.__len__": "", "Lot.__eq__": "other"},
+    "gaps": {"Gap": "squared one other here there", "gap": "lot"},
+    "ears": {"is_ear": "lot fence corner", "ears": "lot fence", "cut": "lot fence corner", "home_row": "lot fence"},
+    "lot_texts": {"lot_text": "lot", "read_lot": "text"},
+    "fours": {"One": "posts", "Many": "one other", "Tiny": "point", "Off": "posts post", "Askew": "",
+              "determinant": "lot four ratio", "on_four": "lot four ratio"},
+    "check_fours": {"shows_four": "lot four ratio value"},
+    "frames": {"is_frame": "posts ratio", "readings": "posts ratio", "places": "lot posts", "stands": "lot posts ratio",
+               "row_of": "lot posts ratio"},
 }
 
 

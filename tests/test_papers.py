@@ -2,10 +2,13 @@ import inspect
 import unittest
 
 from oddsquares.fences import Back, Closed, Meets, Short
+from oddsquares.fours import Askew, Many, Off, One, Tiny
+from oddsquares.gaps import Gap
+from oddsquares.lots import Apart, Cross
 from oddsquares.papers import Denial, Paper, fixed
 
-PAPERS = (Closed,)
-DENIALS = (Short, Back, Meets)
+PAPERS = (Closed, Apart, Gap, One, Many)
+DENIALS = (Short, Back, Meets, Cross, Tiny, Off, Askew)
 VALUES = (0, True, None, "word", (1, 2), [1, [2, (3, [4])]], {"a": [1]}, object())
 
 

@@ -45,3 +45,6 @@ class Raises:
 
     def check_part(self, kind, part, call, *parts, **named):
         self.check_raises(kind, {"part": part}, call, *parts, **named)
+
+
+NO_RATIOS = NO_NUMBERS + (0, -1, (0, 1), (-1, 2), -10 ** 30)

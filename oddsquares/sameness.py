@@ -1,0 +1,29 @@
+"""Whether values of any kind are the same as told ones, True and False being the same as no integers."""
+
+from oddsquares.checks import are_points, is_integer, is_point
+
+
+def is_same(value, told):
+    """Whether any value is the same as one of integers, strings, True, False, None and tuples of such."""
+    if isinstance(told, tuple):
+        if not isinstance(value, tuple) or len(value) != len(told):
+            return False
+        return all([is_same(item, part) for item, part in zip(value, told)])
+    if is_integer(told):
+        return is_integer(value) and value == told
+    return type(value) is type(told) and value == told
+
+
+def is_same_paper(value, told):
+    """Whether any value is a paper of the same class, with the same parts."""
+    return type(value) is type(told) and is_same(value.parts, told.parts)
+
+
+def _is_told_point(value):
+    """Whether any value is a point as papers have it: with pairs as its numbers."""
+    return is_point(value) and not any([is_integer(number) for number in value])
+
+
+def are_told_posts(value):
+    """Whether any value is four points as papers have them."""
+    return are_points(value, 4, 4) and all([_is_told_point(post) for post in value])
