@@ -20,4 +20,4 @@ def shows_four(lot, four, ratio, value):
         return is_same_paper(value, right)
     sides = [lot.side(at) for at in four_in(lot, four)]
     size = ratio_in(ratio)
-    return value.one != value.other and all([_is_frame_on(sides, posts, size) for posts in (value.one, value.other)])
+    return all([_is_frame_on(sides, posts, size) for posts in value.parts]) and value.one != value.other

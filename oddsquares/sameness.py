@@ -4,14 +4,12 @@ from oddsquares.checks import are_points, is_integer, is_point
 
 
 def is_same(value, told):
-    """Whether any value is the same as one of integers, strings, True, False, None and tuples of such."""
-    if isinstance(told, tuple):
-        if not isinstance(value, tuple) or len(value) != len(told):
-            return False
-        return all([is_same(item, part) for item, part in zip(value, told)])
-    if is_integer(told):
+    """Whether any value is the same as an integer, or as a tuple of such and of tuples."""
+    if not isinstance(told, tuple):
         return is_integer(value) and value == told
-    return type(value) is type(told) and value == told
+    if not isinstance(value, tuple) or len(value) != len(told):
+        return False
+    return all([is_same(item, part) for item, part in zip(value, told)])
 
 
 def is_same_paper(value, told):

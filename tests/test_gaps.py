@@ -5,7 +5,7 @@ from oddsquares.errors import BadLot
 from oddsquares.fences import Fence
 from oddsquares.gaps import gap
 from oddsquares.lots import Lot
-from tests.shapes import DENT, KITE, STRAIGHT, TRI, cell, comb, cross, dot, minus, nested, on_side, sides_of, star
+from tests.shapes import DENT, KITE, STRAIGHT, TRI, cell, comb, dot, minus, nested, on_side, sides_of, star
 from tests.values import Raises, fractions_of, pair
 
 
@@ -62,6 +62,10 @@ class GapTest(Raises, unittest.TestCase):
         self.check_gap([((0, 0), (4, 0), (1, 3)), ((3, 3), (9, 4), (4, 9))])
         told = gap(Lot([Fence(TRI), Fence([(3, 3), (9, 4), (4, 9)])]))
         self.assertEqual(told.parts, ((2, 1), (0, 1), (1, 0), ((2, 1), (2, 1)), ((3, 1), (3, 1))))
+
+    def test_near_the_end_of_a_side(self):
+        for x in ((1, 2), (1, 20), (39, 20), (-1, 20), 0, 2):
+            self.check_gap([cell(0, 0, 2), ((x, -1), (-1, -3), (3, -3))])
 
     def test_three_corners_alone(self):
         self.assertIsNone(gap(Lot([Fence(TRI)])))
