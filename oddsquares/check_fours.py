@@ -16,8 +16,8 @@ def _is_frame_on(sides, posts, ratio):
 def shows_four(lot, four, ratio, value):
     """Whether any value is a right paper of the frames on this four."""
     right = on_four(lot, four, ratio)
-    if not isinstance(right, Many) or type(value) is not type(right):
-        return is_same_paper(value, right)
-    sides = [lot.side(at) for at in four_in(lot, four)]
-    size = ratio_in(ratio)
-    return all([_is_frame_on(sides, posts, size) for posts in value.parts]) and value.one != value.other
+    if isinstance(right, Many) and type(value) is type(right):
+        sides = [lot.side(at) for at in four_in(lot, four)]
+        size = ratio_in(ratio)
+        return all([_is_frame_on(sides, posts, size) for posts in value.parts]) and value.one != value.other
+    return is_same_paper(value, right)
