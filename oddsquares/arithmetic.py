@@ -1,6 +1,6 @@
 """Numbers as pairs (top, under) in lowest terms. What is passed is not looked at: the callers know it."""
 
-from math import gcd
+from math import gcd, lcm
 
 ZERO = (0, 1)
 ONE = (1, 1)
@@ -63,3 +63,11 @@ def sign(top):
 def is_share(value):
     """Whether it is from 0 to 1."""
     return 0 <= value[0] <= value[1]
+
+
+def whole(numbers):
+    """The numbers times the least integer that makes all of them integers, and this integer."""
+    under = 1
+    for number in numbers:
+        under = lcm(under, number[1])
+    return [number[0] * (under // number[1]) for number in numbers], under

@@ -1,6 +1,6 @@
 """Ears: corners that can be cut off."""
 
-from oddsquares.checks import is_within
+from oddsquares.checks import is_row, is_within
 from oddsquares.errors import BadEars, BadNumber, Misfit
 from oddsquares.fences import FEWEST_CORNERS, Fence
 from oddsquares.lot_arguments import check_fence_of
@@ -24,6 +24,11 @@ def _is_ear(corners, corner, others):
         return False
     own = [corners[number] for number in range(many) if number not in (ahead, corner, behind)]
     return not any([_is_in_triangle(point, first, second, third) for point in own + others])
+
+
+def _is_told_ear(corners, corner, others):
+    """Whether any value is the number of an ear of a row of corners."""
+    return is_within(corner, 0, len(corners) - 1) and _is_ear(corners, corner, others)
 
 
 def _others(lot, fence):
@@ -63,14 +68,31 @@ def ears(lot, fence):
     return tuple([corner for corner in range(len(corners)) if _is_ear(corners, corner, others)])
 
 
+def check_ear_of(lot, fence, corner):
+    """What cut raises for what is no ear of the fence."""
+    check_fence_of(lot, fence)
+    if not _is_told_ear(lot.fences[fence].corners, corner, _others(lot, fence)):
+        raise BadEars("corner")
+
+
 def cut(lot, fence, corner):
     """The lot in which this ear is cut."""
-    check_fence_of(lot, fence)
-    corners = lot.fences[fence].corners
-    if not is_within(corner, 0, len(corners) - 1) or not _is_ear(corners, corner, _others(lot, fence)):
-        raise BadEars("corner")
-    shorter = Fence(_without(corners, corner))
+    check_ear_of(lot, fence, corner)
+    shorter = Fence(_without(lot.fences[fence].corners, corner))
     return Lot(lot.fences[:fence] + (shorter,) + lot.fences[fence + 1:])
+
+
+def are_cuts(lot, fence, cuts):
+    """Whether any value is a list of one or more cuts of a fence, each an ear where the ones ahead of it are cut."""
+    if not is_row(cuts):
+        return False
+    corners = lot.fences[fence].corners
+    others = _others(lot, fence)
+    for corner in cuts:
+        if not _is_told_ear(corners, corner, others):
+            return False
+        corners = _without(corners, corner)
+    return len(cuts) > 0
 
 
 def home_row(lot, fence):

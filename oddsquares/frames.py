@@ -1,12 +1,12 @@
 """Frames: their readings, places, and rows on a lot."""
 
 from oddsquares.arguments import posts_in, ratio_in
-from oddsquares.arithmetic import ONE, sign
 from oddsquares.checks import are_points
 from oddsquares.determinants import determinant_of
 from oddsquares.errors import Misfit
 from oddsquares.lot_arguments import check_lot
 from oddsquares.rectangles import is_rectangle
+from oddsquares.rounds import from_each, kind_of, word_of
 from oddsquares.segments import lies_on
 from oddsquares.vectors import way_between
 
@@ -21,19 +21,13 @@ def is_frame(posts, ratio):
     return _is_told_frame(posts, ratio_in(ratio))
 
 
-def _from_each(row, ratio):
-    """A row of four told from the posts from which a frame of this ratio is read, the first one first."""
-    steps = (0, 1, 2, 3) if ratio == ONE else (0, 2)
-    return tuple([row[step:] + row[:step] for step in steps])
-
-
 def readings(posts, ratio):
     """The readings of a frame, the told one first, then on, left-hand round."""
     told = posts_in(posts, "posts")
     size = ratio_in(ratio)
     if not is_rectangle(told, size):
         raise Misfit("posts")
-    return _from_each(told, size)
+    return from_each(told, size)
 
 
 def _places(lot, posts):
@@ -63,15 +57,10 @@ def _four_of(lot, posts):
     return tuple([sides[0] for sides in told])
 
 
-def _word_of(four):
-    """The fences of four sides."""
-    return tuple([at[0] for at in four])
-
-
-def _sign_of_four(lot, four, ratio):
-    """The sign of a four for a ratio."""
+def _size_of(lot, four, ratio):
+    """The top of the determinant of a four for a ratio."""
     sides = [lot.side(at) for at in four]
-    return sign(determinant_of([way_between(start, end) for start, end in sides], ratio)[0])
+    return determinant_of([way_between(start, end) for start, end in sides], ratio)[0]
 
 
 def row_of(lot, posts, ratio):
@@ -80,11 +69,9 @@ def row_of(lot, posts, ratio):
     told = posts_in(posts, "posts")
     size = ratio_in(ratio)
     four = _four_of(lot, told)
-    if not is_rectangle(told, size) or four is None or _sign_of_four(lot, four, size) == 0:
+    if not is_rectangle(told, size) or four is None or _size_of(lot, four, size) == 0:
         raise Misfit("posts")
     # Readings have unlike fours: so nothing behind the fours is compared.
-    rows = zip(_from_each(four, size), _from_each(told, size))
-    word, least, first = min([(_word_of(sides), sides, row) for sides, row in rows])
-    if size == ONE and word == (word[0],) * 4:
-        return (word, least, first, 0)
-    return (word, least, first, _sign_of_four(lot, least, size))
+    rows = zip(from_each(four, size), from_each(told, size))
+    word, least, first = min([(word_of(sides), sides, row) for sides, row in rows])
+    return (word, least, first, kind_of(word, _size_of(lot, least, size), size))

@@ -6,8 +6,9 @@ from oddsquares.fences import Fence
 from oddsquares.fours import Askew, Many, Off, One, Tiny, on_four
 from oddsquares.lots import Lot
 from oddsquares.papers import Denial, Paper
+from tests.bent import bent_posts
 from tests.shapes import TRI, cell
-from tests.values import NO_NUMBERS, NO_RATIOS, Raises, in_lists
+from tests.values import NO_RATIOS, Raises, in_lists
 
 TENT = Lot([Fence(TRI)])
 BLUNT = Lot([Fence([(0, 0), (4, 0), (5, 1)])])
@@ -21,22 +22,6 @@ NO_PAPERS = (None, True, False, 0, 1, "one", "many", (), [], WHOLE, ("many", WHO
 # For each kind of paper that on_four tells: a lot, a four, a ratio.
 CASES = {"one": (TENT, [BASE, BASE, RIGHT, LEFT], 1), "tiny": (TENT, [BASE, BASE, BASE, RIGHT], 1),
          "off": (BLUNT, [BASE, BASE, RIGHT, LEFT], 1), "askew": (TENT, [BASE] * 4, 1), "many": (BOX, ROUND, 1)}
-
-
-def bent_posts(posts):
-    """Values that are no such posts in a paper: the same ones, bent in one part."""
-    bent = [posts[:3], posts + posts[:1], posts[::-1], posts[1:] + posts[:1], None, True, 0, "abcd", (), {}, WHOLE[:0], (posts,)]
-    for place in range(4):
-        x, y = posts[place]
-        for point in ((x, (y[0] + 1, y[1])), (y, x), (x,), (x, y, y), None, 0, "12", True, ((2 * x[0], 2 * x[1]), y),
-                      ((-x[0], -x[1]), y)) + tuple((bad, y) for bad in NO_NUMBERS):
-            if point != posts[place]:
-                bent.append(posts[:place] + (point,) + posts[place + 1:])
-        if x[1] == 1:
-            bent.append(posts[:place] + ((x[0], y),) + posts[place + 1:])
-            bent.append(posts[:place] + (((x[0], True), y),) + posts[place + 1:])
-            bent.append(posts[:place] + (((float(x[0]), 1), y),) + posts[place + 1:])
-    return bent
 
 
 class ShowsFourTest(Raises, unittest.TestCase):

@@ -7,7 +7,8 @@ import unittest
 FOLDER = os.path.join(os.path.dirname(os.path.abspath(__file__)), "examples")
 # In the order of the document: an example uses the names that earlier ones made last.
 MODULES = ("errors", "checks", "papers", "exact", "points", "fences", "lots", "gaps", "ears", "lot_texts", "fours", "check_fours",
-           "frames")
+           "frames", "triangles", "judged", "sums", "check_frames", "films", "safe", "check_safe", "lives", "check_lives", "chains",
+           "staircases", "check_chains", "earfilms", "stories", "check_stories")
 
 
 def read_examples(section):

@@ -30,6 +30,23 @@ INTERFACE = {
     "check_fours": {"shows_four": "lot four ratio value"},
     "frames": {"is_frame": "posts ratio", "readings": "posts ratio", "places": "lot posts", "stands": "lot posts ratio",
                "row_of": "lot posts ratio"},
+    "triangles": {"over_base": "fence base ratio"},
+    "judged": {"Plain": "rows", "Barred": "posts post", "judged": "lot ratio"},
+    "sums": {"sums": "plain"},
+    "check_frames": {"shows_judged": "lot ratio value"},
+    "films": {"Film": "first last", "Film.side": "at moment", "Film.direction": "at", "Film.at": "moment", "Film.placed": "at moment",
+              "Film.backward": "", "Film.part": "start stop", "Film.__eq__": "other", "sign_on": "film four ratio"},
+    "safe": {"Safe": "", "Touch": "moment one other point", "judged_film": "film"},
+    "check_safe": {"shows_safe": "film value"},
+    "lives": {"Living": "lives knocks", "Jammed": "moment posts", "judged_lives": "film ratio", "posts_at": "life moment",
+              "frames_at": "living moment"},
+    "check_lives": {"shows_lives": "film ratio value"},
+    "chains": {"Chains": "chains rings", "chains_of": "living", "Joined": "pairs", "joined": "film ratio"},
+    "staircases": {"staircase": "living"},
+    "check_chains": {"shows_chains": "living value", "shows_joined": "film ratio value"},
+    "earfilms": {"ear_film": "lot fence corner"},
+    "stories": {"Story": "pairs home back", "Halted": "step why", "story": "lot fence cuts"},
+    "check_stories": {"shows_story": "lot fence cuts value"},
 }
 
 

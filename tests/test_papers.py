@@ -1,14 +1,19 @@
 import inspect
 import unittest
 
+from oddsquares.chains import Chains, Joined
 from oddsquares.fences import Back, Closed, Meets, Short
 from oddsquares.fours import Askew, Many, Off, One, Tiny
 from oddsquares.gaps import Gap
+from oddsquares.judged import Barred, Plain
+from oddsquares.lives import Jammed, Living
 from oddsquares.lots import Apart, Cross
 from oddsquares.papers import Denial, Paper, fixed
+from oddsquares.safe import Safe, Touch
+from oddsquares.stories import Halted, Story
 
-PAPERS = (Closed, Apart, Gap, One, Many)
-DENIALS = (Short, Back, Meets, Cross, Tiny, Off, Askew)
+PAPERS = (Closed, Apart, Gap, One, Many, Plain, Safe, Living, Chains, Joined, Story)
+DENIALS = (Short, Back, Meets, Cross, Tiny, Off, Askew, Barred, Touch, Jammed, Halted)
 VALUES = (0, True, None, "word", (1, 2), [1, [2, (3, [4])]], {"a": [1]}, object())
 
 
