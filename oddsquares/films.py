@@ -9,7 +9,9 @@ from oddsquares.fences import FEWEST_CORNERS, MOST_CORNERS, Fence, judged_corner
 from oddsquares.lots import MOST_FENCES, MOST_SIDES, Lot, judged_fences
 from oddsquares.moving import at_moment, direction_of
 from oddsquares.segments import sides_of
-from oddsquares.vectors import NOWHERE, cross_of, dot_of, point_of, way_between
+from oddsquares.vectors import cross_of, dot_of, point_of, way_between
+
+NOWHERE = ((0, 1), (0, 1))
 
 
 def _rows_in(rows, counts, part):

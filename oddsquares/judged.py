@@ -7,7 +7,6 @@ from oddsquares.lines import Lines
 from oddsquares.lot_arguments import check_lot
 from oddsquares.papers import Denial, Paper
 from oddsquares.rounds import kind_of, least_fours, word_of
-from oddsquares.standing import ends_on
 
 MOST_SIDES = 16
 
@@ -28,21 +27,19 @@ class Barred(Denial):
         self.posts, self.post = self.parts
 
 
-def _frame_on(lot, lines, four, size):
-    """The posts of a frame that stands on a four with this size, or None.
+def _frame_on(lines, four, size):
+    """The posts of the frame that stands on a four with this size, or None.
 
-    If the size is 0, a frame that has a post at an end of its side: there is one, if any frame stands on the four.
+    A frame on a four with the size 0 need not be found. It can slide on till a post is at a corner at which the fence
+    bends; there it lies on the other side of the corner, too. If the size is 0 by this side as well, the posts can
+    slide on with this one at its corner, till a second one is at such a corner. Of the fours to which two such corners
+    belong, one has a size other than 0: so there is a bar that is found.
     """
-    if size != 0:
-        told = lines.stretch(four, size)
-        if told is None:
-            return None
-        posts = told[1][0]
-        return posts if posts[0] != posts[1] else None
-    if not lines.may_meet(four):
+    told = lines.stretch(four, size) if size != 0 else None
+    if told is None:
         return None
-    frames = ends_on([lot.side(lot.sides[number]) for number in four], lines.ratio)
-    return frames[0] if frames else None
+    posts = told[1][0]
+    return posts if posts[0] != posts[1] else None
 
 
 def _post_at(corners, posts):
@@ -61,7 +58,7 @@ def _judged(lot, ratio):
     rows = []
     for four in least_fours(likely_fours(sides, ratio), lot.sides, ratio):
         size = lines.size(four)
-        posts = _frame_on(lot, lines, four, size)
+        posts = _frame_on(lines, four, size)
         if posts is None:
             continue
         post = _post_at(corners, posts)

@@ -116,12 +116,3 @@ class Lines:
             if span is None:
                 return None
         return span, [tuple([(lowest(x, under), lowest(y, under)) for x, y in tops]) for tops in told]
-
-    def may_meet(self, four):
-        """Of a four with the size 0: False if at 0 < moment < 1, or at the one moment, no posts are on the lines."""
-        for place in range(4):
-            told = self.above(four, place)
-            first, last = told[0], told[-1]
-            if first * last > 0 or (first == 0) != (last == 0):
-                return False
-        return True

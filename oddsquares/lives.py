@@ -12,7 +12,6 @@ from oddsquares.moving import at_moment
 from oddsquares.papers import Denial, Paper, fixed
 from oddsquares.rounds import least_fours, least_round, word_of
 from oddsquares.safe import judged_film
-from oddsquares.slides import slide
 from oddsquares.spans import is_inner
 
 MOST_SIDES = 14
@@ -43,60 +42,75 @@ def _bar_of(film, ratio):
     return None
 
 
-def _jam_at_ends(sides, span, posts):
-    """The Jammed of a frame on four moving sides that has two posts at corners at an inner end of its span, or None.
+def _neighbours(film):
+    """For each side the numbers of the sides ahead of it and behind it."""
+    numbers = {at: number for number, at in enumerate(film.sides)}
+    counts = [len(row) for row in film.first]
+    return [(numbers[(fence, (side - 1) % counts[fence])], numbers[(fence, (side + 1) % counts[fence])])
+            for fence, side in film.sides]
 
-    If it has them within its span, it has them at both ends, too: posts that do not come to a corner at an end of the
-    span, and are at one within it, are there all the time. If both ends are 0 and 1, there is a bar then.
+
+def _other_fours(ends, neighbours, four, posts, moment):
+    """For each post that is at a corner at a moment the four with the other side of this corner in its place."""
+    fours = []
+    for place, post in enumerate(posts):
+        side = at_moment(ends[four[place]], moment)
+        if post in side:
+            other = neighbours[four[place]][side.index(post)]
+            fours.append(four[:place] + (other,) + four[place + 1:])
+    return fours
+
+
+def _jam_at_ends(lines, ends, neighbours, four, told):
+    """The Jammed of an inner end of the span of a four, or None; told is the span and the posts at 0 and at 1.
+
+    If a film has a jam, one is found so, or a bar at 0 or at 1: posts that are at corners within the span, but not just
+    at its ends, are there all the time; and a frame on a four of the sign 0 can slide on, at its moment, till it lies
+    on another four, too, whose sign is not 0: see _frame_on in judged.py.
     """
+    span, posts = told
     for moment in span:
         if is_inner(moment):
             now = at_moment(posts, moment)
-            corners = [post for post, side in zip(now, sides) if post in at_moment(side, moment)]
-            if len(corners) > 1:
+            others = _other_fours(ends, neighbours, four, now, moment)
+            if len(others) > 1 or lines.size(others[0]) == 0:
                 return Jammed(moment, now)
     return None
 
 
-def _jam_of_sliding(sides, ratio):
-    """The Jammed of a frame on four moving sides with the sign 0 at an inner moment, or None."""
-    told = slide(sides, ratio)
-    return None if told is None else Jammed(told[0], told[1])
-
-
-def _course(ends, lines, four, size):
-    """The span and the posts at 0 and at 1 of the life of a four with this size, or a Jammed; or None."""
-    sides = [ends[number] for number in four]
-    if size == 0:
-        return _jam_of_sliding(sides, lines.ratio) if lines.may_meet(four) else None
-    told = lines.stretch(four, size)
+def _course(lines, four):
+    """The span and the posts at 0 and at 1 of a four with a sign; None if it has no span, or its posts are a point."""
+    size = lines.size(four)
+    told = lines.stretch(four, size) if size != 0 else None
     if told is None:
         return None
-    span, posts = told
-    # What is one point at both moments is one at all.
-    if posts[0][0] == posts[0][1] and posts[1][0] == posts[1][1]:
-        return None
-    jam = _jam_at_ends(sides, span, posts)
-    if jam is not None:
-        return jam
-    return told if span[0] != span[1] else None
+    first, last = told[1]
+    return None if first[0] == first[1] and last[0] == last[1] else told
+
+
+def _life(film, lines, four, told):
+    """The life of a four, by its span and its posts at 0 and at 1."""
+    (birth, death), posts = told
+    sides = tuple([film.sides[number] for number in four])
+    born, dead = at_moment(posts, birth), at_moment(posts, death)
+    return (word_of(sides), sides, birth, death, born, dead, sign(lines.size(four)))
 
 
 def _lives_of(film, ratio):
     """All lives, ascending, or a Jammed of an inner moment."""
     ends = both_ends(film)
     lines = Lines(ends, ratio)
+    neighbours = _neighbours(film)
     lives = []
     for four in least_fours(likely_fours(ends, ratio), film.sides, ratio):
-        size = lines.size(four)
-        told = _course(ends, lines, four, size)
-        if isinstance(told, Jammed):
-            return told
-        if told is not None:
-            (birth, death), posts = told
-            sides = tuple([film.sides[number] for number in four])
-            born, dead = at_moment(posts, birth), at_moment(posts, death)
-            lives.append((word_of(sides), sides, birth, death, born, dead, sign(size)))
+        told = _course(lines, four)
+        if told is None:
+            continue
+        jam = _jam_at_ends(lines, ends, neighbours, four, told)
+        if jam is not None:
+            return jam
+        if told[0][0] != told[0][1]:
+            lives.append(_life(film, lines, four, told))
     # Lives have unlike fours: so no moments are compared, which are not ordered by size.
     return sorted(lives)
 

@@ -7,7 +7,9 @@ from oddsquares.arithmetic import ONE, ZERO, is_share, negative
 from oddsquares.linear import narrowed, solutions
 from oddsquares.rectangles import faults
 from oddsquares.segments import lies_on
-from oddsquares.vectors import NOWHERE, moved, way_between
+from oddsquares.vectors import moved, way_between
+
+NOWHERE = ((0, 1), (0, 1))
 
 
 def rows_on(sides, ratio):
@@ -48,14 +50,6 @@ def outermost(sides, base, ways):
         if posts[0] != posts[1] and posts not in found:
             found.append(posts)
     return found
-
-
-def ends_on(sides, ratio):
-    """Unlike frames on the sides with a post at an end, if the determinant is 0: one at least, if any stands there."""
-    rows = rows_on(sides, ratio)
-    if rows is None:
-        return []
-    return outermost(sides, rows[0], rows[1])
 
 
 def halfway(one, other):

@@ -3,10 +3,6 @@
 from oddsquares.arithmetic import difference, is_below, negative, pair_of, product_of, sum_of
 
 
-# As a vector: no way at all.
-NOWHERE = ((0, 1), (0, 1))
-
-
 def point_of(value):
     """The point with pairs as its numbers."""
     return (pair_of(value[0]), pair_of(value[1]))

@@ -11,8 +11,8 @@ from oddsquares.lots import Lot
 from oddsquares.papers import Denial, Paper
 from tests.shapes import KITE, TRI, cell, star
 from tests.test_lives import moments_between, plain_films
-from tests.told import (AT_FIRST, BENT_EAR, CORNERED, DART, EAR, GERMS, GROWN, LARGE, MEET, PART, RING, RING_OF_OBLONGS, RING_OF_SQUARES,
-                        RINGS, SLIDING, UNSAFE, WITHIN, moved, still)
+from tests.told import (AT_FIRST, BENT_EAR, CORNERED, DART, EAR, GERMS, GROWN, LARGE, MEET, PART, RING, RING_OF_OBLONGS,
+                        RING_OF_SQUARES, RINGS, SLIDING, TWO_EARS, UNSAFE, WITHIN, moved, still)
 from tests.values import NO_RATIOS, Raises, fraction, in_lists, pair
 
 NO_FILMS = (None, True, 0, "", [], ([TRI], [TRI]), Fence(TRI), Lot([Fence(TRI)]), Film, object())
@@ -175,7 +175,8 @@ class JoinedTest(Raises, unittest.TestCase):
         return tuple(sorted(set(pairs)))
 
     def test_germs_are_linked(self):
-        for film, ratio, many in ((BENT_EAR, 1, 2), (DART, 1, 2), (AT_FIRST, 1, 2), (GERMS, 1, 2), (GERMS, 2, 4), (DART, (3, 2), 4)):
+        for film, ratio, many in ((BENT_EAR, 1, 2), (DART, 1, 2), (AT_FIRST, 1, 2), (GERMS, 1, 2), (GERMS, 2, 4), (DART, (3, 2), 4),
+                                  (TWO_EARS, 1, 4)):
             chains = chains_of(judged_lives(film, ratio)).chains
             self.assertEqual(sum(tip[2] for chain in chains for tip in chain[:2]), many)
             self.check_pairs(film, ratio)
@@ -200,7 +201,8 @@ class JoinedTest(Raises, unittest.TestCase):
         for film, ratio in ((EAR, 1), (BENT_EAR, 1), (BENT_EAR, 2), (GERMS, 2), (PART, 1), (RINGS, 2), (WITHIN, 1)):
             told = joined(film, ratio)
             for moment in moments_between(judged_lives(film, ratio))[2::3]:
-                parts = [self.partners(joined(film.part(start, stop), ratio)) for start, stop in ((0, pair(moment)), (pair(moment), 1))]
+                parts = [self.partners(joined(film.part(start, stop), ratio))
+                         for start, stop in ((0, pair(moment)), (pair(moment), 1))]
                 for place, other in self.partners(told).items():
                     number, frame = place[0], place
                     while True:

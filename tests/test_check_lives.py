@@ -19,8 +19,9 @@ RIGHT = still(((0, 0), (4, 0), (0, 3)))
 SQUARE = (((0, 1), (0, 1)), ((12, 7), (0, 1)), ((12, 7), (12, 7)), ((0, 1), (12, 7)))
 BOX = still(cell(0, 0))
 NO_FILMS = (None, True, 0, "", [], ([TRI], [TRI]), Fence(TRI), Lot([Fence(TRI)]), Film, object())
-NO_PAPERS = (None, True, False, 0, 1, "living", (), [], {}, object(), Living, Jammed, Paper("living", (), ()), Denial("jammed", (0, 1), SQUARE),
-             Barred(SQUARE, 0), Living(None, None), Living((), ()), Living([None], [None]), Jammed(None, None), Jammed((), ()), Jammed((1, 2), None))
+NO_PAPERS = (None, True, False, 0, 1, "living", (), [], {}, object(), Living, Jammed, Paper("living", (), ()),
+             Denial("jammed", (0, 1), SQUARE), Barred(SQUARE, 0), Living(None, None), Living((), ()), Living([None], [None]),
+             Jammed(None, None), Jammed((), ()), Jammed((1, 2), None))
 
 
 def told(*points):

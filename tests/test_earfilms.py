@@ -11,7 +11,8 @@ from tests.shapes import DENT, KITE, STRAIGHT, TRI, cell, comb, star
 from tests.told import RING, lot_of
 from tests.values import NO_INTEGERS, Raises
 
-LOTS = ((KITE,), (DENT,), (STRAIGHT,), (comb(4),), (star(9, 5),), (cell(0, 0), cell(9, 0)), (star(7, 9), ((20, 20), (24, 20), (21, 23))),
+LOTS = ((KITE,), (DENT,), (STRAIGHT,), (comb(4),), (star(9, 5),), (cell(0, 0), cell(9, 0)),
+        (star(7, 9), ((20, 20), (24, 20), (21, 23))),
         (((0, 0), (60, 0), (60, 60), (50, 70), (0, 60)), cell(10, 10)), RING)
 NO_LOTS = (None, True, 0, "", [], [Fence(TRI)], Fence(TRI), TRI, object())
 
@@ -32,8 +33,8 @@ class EarFilmTest(Raises, unittest.TestCase):
         self.assertEqual(judged_film(film), Safe())
         for moment in (0, 1):
             points = [at for at in film.sides if film.placed(at, moment) is None]
-            beside = [(fence, corner)] if moment == 0 else sorted([(fence, (corner - 1) % (many + 1)), (fence, (corner + 1) % (many + 1))])
-            self.assertEqual(points, beside)
+            told = [corner] if moment == 0 else sorted([(corner - 1) % (many + 1), (corner + 1) % (many + 1)])
+            self.assertEqual(points, [(fence, side) for side in told])
         return film
 
     def test_each_ear(self):

@@ -25,8 +25,8 @@ OPEN = ((1, 0), (4, 0), (1, 3), ((1, 3), 1))
 
 def no_sides(film):
     many = len(film.first)
-    return (None, True, 0, "00", (), (0,), (0, 0, 0), (many, 0), (-1, 0), (0, -1), (0, len(film.first[0])), (True, 0), (0, False), (0, 0.0),
-            (0, (0, 1)), {0: 1, 1: 2}, object(), ((0, 0), (0, 1)))
+    return (None, True, 0, "00", (), (0,), (0, 0, 0), (many, 0), (-1, 0), (0, -1), (0, len(film.first[0])), (True, 0),
+            (0, False), (0, 0.0), (0, (0, 1)), {0: 1, 1: 2}, object(), ((0, 0), (0, 1)))
 
 
 def integers(*rows):
@@ -66,15 +66,17 @@ class MakingTest(Raises, unittest.TestCase):
 
     def test_bad_first(self):
         seven = [cell(9 * k, 0) for k in range(7)]
-        for bad in (None, True, 0, "abc", (), [], {}, object(), Fence(TRI), lot_of(TRI), TRI, [None], [TRI, None], [Fence(TRI)], [TRI[:2]], [()],
-                    {0: TRI}, iter([TRI]), seven, ["abc"], [star(41, 9)], [TRI, star(41, 9)]) + tuple([[bad, *TRI]] for bad in NO_POINTS):
+        rows = [None, True, 0, "abc", (), [], {}, object(), Fence(TRI), lot_of(TRI), TRI, [None], [TRI, None], [Fence(TRI)], [TRI[:2]],
+                [()], {0: TRI}, iter([TRI]), seven, ["abc"], [star(41, 9)], [TRI, star(41, 9)]]
+        for bad in rows + [[[bad, *TRI]] for bad in NO_POINTS]:
             self.check_part(BadFilm, "first", Film, bad, None)
         self.assertEqual(len(Film([cell(9 * k, 0) for k in range(6)], [cell(9 * k, 0) for k in range(6)]).first), 6)
         self.assertEqual(len(Film([star(40, 9)], [star(40, 9)]).sides), 40)
 
     def test_bad_last(self):
-        for bad in (None, True, 0, "abc", (), [], {}, object(), [KITE], [TRI[:2]], [TRI, TRI], TRI, [None], {0: TRI}, iter([TRI]), ["abc"],
-                    [Fence(TRI)]) + tuple([[bad, *TRI[:2]]] for bad in NO_POINTS):
+        rows = [None, True, 0, "abc", (), [], {}, object(), [KITE], [TRI[:2]], [TRI, TRI], TRI, [None], {0: TRI}, iter([TRI]), ["abc"],
+                [Fence(TRI)]]
+        for bad in rows + [[[bad, *TRI[:2]]] for bad in NO_POINTS]:
             self.check_part(BadFilm, "last", Film, [TRI], bad)
         self.check_part(BadFilm, "last", Film, [TRI, cell(9, 0)], [cell(9, 0), TRI])
         # A row that makes no fence is none of these.

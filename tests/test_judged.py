@@ -18,7 +18,8 @@ PLAIN = ((TRI,), (KITE,), (DENT,), RING, (LARGE, TRI), (TRI, moved(TRI, 10, 1, 2
          (TRI, moved(KITE, 5, 2, (1, 2))), (((-30, -20), (50, -25), (10, 60)), TRI, ((5, 4), (9, 5), (4, 9))))
 RIGHT = ((0, 0), (4, 0), (0, 3))
 # Lots with a bar for each ratio: right angles, boxes, sides in parallel.
-BARRED = ((RIGHT,), (cell(0, 0),), (((0, 0), (8, 0), (8, 3), (0, 3)),), (cell(0, 0), cell(9, 0)), (TRI, moved(RIGHT, 9, 0)), (comb(3),))
+BARRED = ((RIGHT,), (cell(0, 0),), (((0, 0), (8, 0), (8, 3), (0, 3)),), (cell(0, 0), cell(9, 0)), (TRI, moved(RIGHT, 9, 0)),
+          (comb(3),))
 
 
 def own_rows(lot, ratio):

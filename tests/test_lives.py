@@ -13,8 +13,8 @@ from oddsquares.lots import Lot
 from oddsquares.papers import Denial, Paper
 from tests.oracles import SlowFilm, pairs_of
 from tests.shapes import KITE, TRI, cell, cross, dot, star
-from tests.told import (AT_FIRST, AT_ONCE, BENT_EAR, CORNERED, DART, EAR, GERMS, GROWN, LARGE, MEET, MOVED, PART, PLAIN, RING, RINGS,
-                        SLIDING, SLIDING_2, TWO_AT_ONCE, UNSAFE, WITHIN, moved, still)
+from tests.told import (AT_FIRST, AT_ONCE, BENT_EAR, CORNERED, DART, EAR, GERMS, GROWN, LARGE, MEET, MOVED, PART, PLAIN, RING,
+                        RINGS, SLIDING, SLIDING_2, SLIDING_AHEAD, SLIDING_BEHIND, TWO_AT_ONCE, UNSAFE, WITHIN, mirrored, moved, still)
 from tests.values import NO_NUMBERS, NO_RATIOS, Raises, fraction, fractions_of, in_lists, pair
 
 NO_FILMS = (None, True, 0, "", [], ([TRI], [TRI]), Fence(TRI), Lot([Fence(TRI)]), Film, object())
@@ -58,8 +58,8 @@ class JudgedLivesTest(Raises, unittest.TestCase):
         return told
 
     def test_slowly(self):
-        for film, ratio in ((still(TRI), 2), (GROWN, 1), (MEET, 1), (MEET, (1, 2)), (PART, 1), (EAR, 1), (TWO_AT_ONCE, 2), (SLIDING, 1),
-                            (TWO_AT_ONCE, 1), (still(RIGHT), 1), (GROWN.backward(), 2)):
+        for film, ratio in ((still(TRI), 2), (GROWN, 1), (MEET, 1), (MEET, (1, 2)), (PART, 1), (EAR, 1), (TWO_AT_ONCE, 2),
+                            (SLIDING, 1), (TWO_AT_ONCE, 1), (still(RIGHT), 1), (GROWN.backward(), 2)):
             with self.subTest(film=film.first, ratio=ratio):
                 self.check_slowly(film, ratio)
 
@@ -142,8 +142,8 @@ class JudgedLivesTest(Raises, unittest.TestCase):
                 self.assertEqual(judged_lives(ratio=ratio, film=Film(in_lists(film.first), in_lists(film.last))), living)
 
     def test_what_knocks_there_are(self):
-        for film, ratio, many in ((MEET, 1, "hhm"), (MEET, 2, "hhmm"), (PART, 1, "hph"), (RINGS, 1, "phm"), (WITHIN, 1, "hh"), (EAR, 1, "hhhh"),
-                                  (still(TRI), 1, ""), (GROWN, 2, ""), (MOVED, 1, "")):
+        for film, ratio, many in ((MEET, 1, "hhm"), (MEET, 2, "hhmm"), (PART, 1, "hph"), (RINGS, 1, "phm"), (WITHIN, 1, "hh"),
+                                  (EAR, 1, "hhhh"), (still(TRI), 1, ""), (GROWN, 2, ""), (MOVED, 1, "")):
             self.assertEqual("".join(knock[4][0] for knock in judged_lives(film, ratio).knocks), many)
 
     def test_several_knocks_at_one_moment(self):
@@ -171,7 +171,8 @@ class JudgedLivesTest(Raises, unittest.TestCase):
             told = {}
             for word, four, birth, death, born, dead, sign in judged_lives(film, ratio).lives:
                 told[four] = (word, four, pair(1 - fraction(death)), pair(1 - fraction(birth)), dead, born, sign)
-            self.assertEqual(judged_lives(film.backward(), ratio).lives, tuple(told[four] for four in sorted(told, key=lambda f: (told[f][0], f))))
+            right = tuple(told[four] for four in sorted(told, key=lambda four: (told[four][0], four)))
+            self.assertEqual(judged_lives(film.backward(), ratio).lives, right)
 
     def test_parts(self):
         start, stop = Fraction(1, 17), Fraction(13, 14)
@@ -260,6 +261,11 @@ class JammedTest(Raises, unittest.TestCase):
         self.assertEqual(self.check(SLIDING, 1)[0], (2, 3))
         self.assertEqual(self.check(SLIDING_2, 2)[0], (7, 12))
         self.assertEqual(self.check(SLIDING_2, (1, 2))[0], (7, 12))
+        # Mirrored, a corner is at the other end of its side.
+        self.assertEqual(self.check(mirrored(SLIDING), 1)[0], (2, 3))
+        self.assertEqual(self.check(mirrored(SLIDING_2), 2)[0], (7, 12))
+        self.assertEqual(self.check(SLIDING_AHEAD, 2)[0], (3, 4))
+        self.assertEqual(self.check(SLIDING_BEHIND, 1)[0], (1, 6))
         self.assertIs(bool(judged_lives(SLIDING, (3, 2))), True)
         self.assertIs(bool(judged_lives(SLIDING_2, 1)), True)
 
@@ -330,7 +336,8 @@ class PostsAtTest(Raises, unittest.TestCase):
 
     def test_errors(self):
         for life in judged_lives(EAR, 1).lives:
-            for bad in NO_NUMBERS + (-1, 2, pair(fraction(life[2]) - Fraction(1, 10 ** 9)), pair(fraction(life[3]) + Fraction(1, 10 ** 9))):
+            little = Fraction(1, 10 ** 9)
+            for bad in NO_NUMBERS + (-1, 2, pair(fraction(life[2]) - little), pair(fraction(life[3]) + little)):
                 self.check_part(BadNumber, "moment", posts_at, life, bad)
 
 

@@ -15,8 +15,8 @@ from tests.told import EAR, GROWN, LARGE, PASSING, PUSHED, SAFE, SPUR, THROUGH, 
 from tests.values import NO_NUMBERS, NO_POINTS, Raises, fraction, fractions_of, in_lists, pair
 
 NO_FILMS = (None, True, 0, "", [], ([TRI], [TRI]), Fence(TRI), Lot([Fence(TRI)]), Film, object())
-NO_PAPERS = (None, True, False, 0, 1, "safe", (), [], {}, object(), Paper("safe"), Safe, Touch, Denial("touch", (1, 2), (0, 1), (1, 0), ((1, 1), (1, 1))),
-             Touch(None, None, None, None), Touch(1, 2, 3, 4), Touch((), (), (), ()))
+NO_PAPERS = (None, True, False, 0, 1, "safe", (), [], {}, object(), Paper("safe"), Safe, Touch,
+             Denial("touch", (1, 2), (0, 1), (1, 0), ((1, 1), (1, 1))), Touch(None, None, None, None), Touch(1, 2, 3, 4), Touch((), (), (), ()))
 
 
 def films_by_chance(many, seed):
@@ -100,12 +100,19 @@ class JudgedFilmTest(Raises, unittest.TestCase):
             film = Film([SPUR.first[0][step:] + SPUR.first[0][:step]], [SPUR.last[0][step:] + SPUR.last[0][:step]])
             self.assertTrue(self.check(film))
 
-    def test_a_spur_alone(self):
-        # Only the two sides of the spur touch, and each with the neighbour of the other one.
-        first = [((0, 0), (9, 0), (9, 4), (9, 4), (8, 4), (7, 9), (0, 9))]
-        film = Film(first, [((0, 0), (9, 0), (9, 4), (10, 4), (10, 4), (9, 9), (0, 9))])
-        told = {touch[:2] for touch in self.check(film)}
-        self.assertIn(((0, 2), (0, 3)), told)
+    def test_straight_corners(self):
+        # Neighbours that go on straight touch at their corner alone, however short they are.
+        for size in (1, (1, 2), (1, 4), (1, 10 ** 20)):
+            self.assertEqual(self.check(still(moved(((0, 0), (1, 0), (2, 0), (1, 3)), 0, 0, size))), [])
+
+    def test_neighbours_first(self):
+        # The sides of the spur are 0 and 1: there is no lesser pair. They are as long as each other at 1/2, or not.
+        for long, wide in ((1, 1), (2, 1), (1, 2), (3, 1), (1, 3)):
+            film = Film([[(4, 2), (4, 2), (4 - long, 2), (4 - long, 4), (0, 4), (0, 0), (4, 0)]],
+                        [[(4, 2), (4 + wide, 2), (4 + wide, 2), (4 + wide, 4), (0, 4), (0, 0), (4, 0)]])
+            self.assertTrue(self.check(film))
+            told = judged_film(film)
+            self.assertEqual((told.one, told.other), ((0, 0), (0, 1)))
 
     def test_one_moment_alone(self):
         touches = self.check(PASSING)
@@ -192,12 +199,13 @@ class ShowsSafeTest(Raises, unittest.TestCase):
         self.check(THROUGH, Touch(moment, one, other, point), True)
         for bad in NO_NUMBERS + (0, 1, (0, 1), (1, 1), (1, 3), (-1, 2), (3, 2), (2, 4)):
             self.check(THROUGH, Touch(bad, one, other, point), False)
-        for bad in (None, True, 0, "02", (), (0,), (0, 2, 0), (0, 1), (0, 3), (2, 0), (-1, 2), (0, -1), (False, 2), (0, 2.0), (0, True), one[::-1]):
+        for bad in (None, True, 0, "02", (), (0,), (0, 2, 0), (0, 1), (0, 3), (2, 0), (-1, 2), (0, -1), (False, 2), (0, 2.0), (0, True),
+                    one[::-1]):
             self.check(THROUGH, Touch(moment, bad, other, point), False)
         for bad in (None, True, 0, "10", (), (1,), (1, 0, 0), (1, 3), (2, 0), (True, 0), (1, False), (1.0, 0), (0, 1), (1, -3)):
             self.check(THROUGH, Touch(moment, one, bad, point), False)
-        for bad in NO_POINTS + (((1, 3), 1), ((1, 3), (2, 1)), ((2, 3), (1, 1)), ((1, 3), (True, 1)), ((1, 3), (1, True)), point[::-1],
-                                ((2, 6), (1, 1)), (1, 1), ((0, 1), (0, 1))):
+        for bad in NO_POINTS + (((1, 3), 1), ((1, 3), (2, 1)), ((2, 3), (1, 1)), ((1, 3), (True, 1)), ((1, 3), (1, True)),
+                                point[::-1], ((2, 6), (1, 1)), (1, 1), ((0, 1), (0, 1))):
             self.check(THROUGH, Touch(moment, one, other, bad), False)
 
     def test_integers_for_pairs(self):

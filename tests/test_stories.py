@@ -154,7 +154,8 @@ class StoryTest(Raises, unittest.TestCase):
             self.check_part(BadLot, "lot", story, bad, None, None)
         for bad in NO_INTEGERS + (-1, 1):
             self.check_part(BadNumber, "fence", story, lot, bad, None)
-        for bad in (None, True, 0, 2, "2", (), [], {2: 0}, {2}, object(), iter([2]), [2, 1], [4], [-1], [True], [2.0], [[2]], [2, 0], range(1)):
+        for bad in (None, True, 0, 2, "2", (), [], {2: 0}, {2}, object(), iter([2]), [2, 1], [4], [-1], [True], [2.0], [[2]], [2, 0],
+                    range(1)):
             self.check_part(BadEars, "cuts", story, lot, 0, bad)
         for corner in (0, 2):
             self.check_part(BadEars, "cuts", story, lot_of(DENT), 0, [corner])
@@ -227,8 +228,8 @@ class ShowsStoryTest(Raises, unittest.TestCase):
         class Other(Story):
             pass
 
-        for value in (None, True, False, 0, "story", (), [], {}, object(), Story, Halted, Story(None, None, None), Halted(None, None),
-                      joined(ear_film(lot_of(KITE), 0, 2), 1), Other(*story(lot_of(KITE), 0, [2]).parts)):
+        for value in (None, True, False, 0, "story", (), [], {}, object(), Story, Halted, Story(None, None, None),
+                      Halted(None, None), joined(ear_film(lot_of(KITE), 0, 2), 1), Other(*story(lot_of(KITE), 0, [2]).parts)):
             self.check(lot_of(KITE), 0, [2], value, False)
             self.check(lot_of(BOX), 0, [2], value, False)
 

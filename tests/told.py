@@ -49,6 +49,13 @@ PUSHED = Film([[(0, 2), (1, 2), (0, 1), (4, 1), (1, 3), (2, 5)]],
               [[((2, 3), 7), (2, 7), (-4, 1), (4, 1), (1, 3), (10, 21)]])
 # The lower corner of the second fence passes the upper corner of the first one, at 1/2 alone.
 PASSING = Film([[(0, 0), (2, 0), (1, 3)], [(-3, 3), (-1, 6), (-5, 6)]], [[(0, 0), (2, 0), (1, 3)], [(5, 3), (7, 6), (3, 6)]])
+
+
+def mirrored(film):
+    """The film with (-x, y) in the place of each point (x, y)."""
+    return Film(*[[[(pair(-fraction(x)), y) for x, y in row[::-1]] for row in rows] for rows in (film.first, film.last)])
+
+
 UNSAFE = (THROUGH, SPUR, PUSHED, PASSING)
 SAFE = (EAR, EAR.backward(), BENT_EAR, DART, GROWN, GROWN.backward(), MOVED, WITHIN, still(TRI), still(*RING), still(DENT),
         ear_film(lot_of(KITE), 0, 0), ear_film(lot_of(KITE), 0, 3), ear_film(lot_of(DENT), 0, 1))
@@ -68,10 +75,17 @@ TWO_AT_ONCE = Film([[(2, 9), (4, 7), (6, 13), (2, 11)]], [[(2, 11), ((9, 2), (17
 # Four germs for ratio 2 at one corner.
 GERMS = Film([[(5, 3), (17, 19), (17, 19), (9, 9), (15, 19)]], [[(5, 3), (5, 3), (9, 9), (9, 9), (15, 19)]])
 # A germ at the first moment, at corner 0.
-AT_FIRST = Film([[((3, 2), (1, 2)), (4, (7, 2)), (1, 0), (1, 0), ((3, 2), (1, 2))]], [[((3, 2), (1, 2)), (4, (7, 2)), (1, 0), (3, 1), (3, 1)]])
-PLAIN = SAFE + (MEET, PART, RINGS, RING_OF_SQUARES, RING_OF_OBLONGS, AT_ONCE, TWO_AT_ONCE, GERMS, AT_FIRST)
+AT_FIRST = Film([[((3, 2), (1, 2)), (4, (7, 2)), (1, 0), (1, 0), ((3, 2), (1, 2))]],
+                [[((3, 2), (1, 2)), (4, (7, 2)), (1, 0), (3, 1), (3, 1)]])
+# Two ears are cut at once: germs at two points.
+TWO_EARS = Film([BENT_EAR.first[0], moved(BENT_EAR.first[0], 40, 7)], [BENT_EAR.last[0], moved(BENT_EAR.last[0], 40, 7)])
+PLAIN = SAFE + (MEET, PART, RINGS, RING_OF_SQUARES, RING_OF_OBLONGS, AT_ONCE, TWO_AT_ONCE, GERMS, AT_FIRST, TWO_EARS)
 # Films whose lots at 0 and at 1 are plain: at an inner moment a frame has two posts at corners,
 CORNERED = Film([[(2, 0), (1, 2), (0, 2), (0, 1), (0, 1)]], [[(2, 0), (1, 2), (0, 2), (0, 2), (2, 0)]])
 # or four sides of the sign 0 bear one: for ratio 1, and for ratio 2.
 SLIDING = Film([[(1, 0), (5, 2), (5, 3), (1, 5)]], [[(1, (3, 2)), (5, (7, 2)), (5, 6), (1, 8)]])
 SLIDING_2 = Film([[(6, 7), (6, 7), (6, 4), (6, (7, 2)), (7, 5)]], [[(7, 5), (6, 4), (6, 4), (6, (7, 2)), (7, 5)]])
+# Here such frames have posts at corners at the begin of their sides alone, for ratio 2, and at the end alone, for ratio 1.
+SLIDING_AHEAD = Film([[(10, 1), (8, 4), (9, 0), (9, 2)]], [[(18, -7), ((28, 5), (58, 5)), (9, -2), (9, 2)]])
+SLIDING_BEHIND = Film([[(1, 3), (0, 1), (3, 2), (3, 3), (2, 2)]],
+                      [[((-5, 6), (29, 6)), ((-9, 2), (-5, 2)), (3, 0), (3, 3), (2, 2)]])
