@@ -13,6 +13,22 @@ def number_in(value, part):
     return pair_of(value)
 
 
+def above_0_in(value, part):
+    """The pair of a number above 0: BadNumber(part) for what is none."""
+    told = number_in(value, part)
+    if told[0] <= 0:
+        raise BadNumber(part)
+    return told
+
+
+def inner_share_in(value):
+    """The pair of a number above 0 and below 1: BadNumber("share") for what is none."""
+    told = above_0_in(value, "share")
+    if told[0] >= told[1]:
+        raise BadNumber("share")
+    return told
+
+
 def ratio_in(value):
     """The pair of a ratio: BadRatio("ratio") for what is no number above 0."""
     if not is_number(value) or pair_of(value)[0] <= 0:

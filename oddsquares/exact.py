@@ -61,7 +61,7 @@ def number_text(value):
     return f"{top}/{under}"
 
 
-def _is_count(text):
+def is_count(text):
     """Whether it is 1 to 60 digits without a needless zero ahead."""
     if not text.isascii() or not text.isdigit() or len(text) > MOST_DIGITS:
         return False
@@ -74,12 +74,12 @@ def parsed_number(text):
         return None
     is_negative = text.startswith("-")
     top_text, stroke, under_text = text.removeprefix("-").partition("/")
-    if not _is_count(top_text) or (is_negative and top_text == "0"):
+    if not is_count(top_text) or (is_negative and top_text == "0"):
         return None
     top = -int(top_text) if is_negative else int(top_text)
     if stroke == "":
         return (top, 1)
-    if not _is_count(under_text) or int(under_text) < 2 or gcd(top, int(under_text)) != 1:
+    if not is_count(under_text) or int(under_text) < 2 or gcd(top, int(under_text)) != 1:
         return None
     return (top, int(under_text))
 

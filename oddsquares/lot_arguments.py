@@ -18,6 +18,12 @@ def check_fence_of(lot, fence):
         raise BadNumber("fence")
 
 
+def check_side_of(lot, fence, side):
+    """BadNumber("side") for the number of no side of a fence of the lot."""
+    if not is_within(side, 0, len(lot.fences[fence]) - 1):
+        raise BadNumber("side")
+
+
 def four_in(lot, four):
     """The tuple of four sides of a lot: BadSides("four") for what is no list of four."""
     if not is_row(four) or len(four) != 4:

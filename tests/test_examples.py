@@ -8,7 +8,8 @@ FOLDER = os.path.join(os.path.dirname(os.path.abspath(__file__)), "examples")
 # In the order of the document: an example uses the names that earlier ones made last.
 MODULES = ("errors", "checks", "papers", "exact", "points", "fences", "lots", "gaps", "ears", "lot_texts", "fours", "check_fours",
            "frames", "triangles", "judged", "sums", "check_frames", "films", "safe", "check_safe", "lives", "check_lives", "chains",
-           "staircases", "check_chains", "earfilms", "stories", "check_stories")
+           "staircases", "check_chains", "earfilms", "stories", "check_stories", "found", "nudged", "near", "likelots", "check_near",
+           "motions", "emptied", "check_emptied", "hinges", "check_hinges", "pictures", "reader", "desk")
 
 
 def read_examples(section):
@@ -27,11 +28,10 @@ def read_examples(section):
     return examples
 
 
-def names_of_the_package():
-    names = {}
-    for module in MODULES:
-        names.update(vars(importlib.import_module("oddsquares." + module)))
-    return names
+def names_of(section):
+    """What the file defines: not what it imports, since the files that are no section have names of their own."""
+    module = importlib.import_module("oddsquares." + section)
+    return {name: value for name, value in vars(module).items() if getattr(value, "__module__", "") == module.__name__}
 
 
 class ExamplesTest(unittest.TestCase):
@@ -52,8 +52,12 @@ class ExamplesTest(unittest.TestCase):
             self.assertEqual(repr(eval(source, names)), told)
 
     def test_examples(self):
-        names = names_of_the_package()
+        names = {}
         for section in MODULES:
+            names.update(names_of(section))
+        for section in MODULES:
+            # An earlier example may have given a name of this section to a value of its own.
+            names.update(names_of(section))
             for number, source, told in read_examples(section):
                 with self.subTest(section=section, line=number):
                     self.check_example(source, told, names)

@@ -47,6 +47,21 @@ INTERFACE = {
     "earfilms": {"ear_film": "lot fence corner"},
     "stories": {"Story": "pairs home back", "Halted": "step why", "story": "lot fence cuts"},
     "check_stories": {"shows_story": "lot fence cuts value"},
+    "found": {"found": "lot"},
+    "nudged": {"with_corners": "lot moves", "nudged": "lot ratio span"},
+    "near": {"Near": "triples", "Far": "square", "near": "lot ratio", "near_ratio": "lot"},
+    "likelots": {"shifted": "lot vector", "quartered": "lot", "mirrored": "lot", "grown": "lot factor",
+                 "with_straight": "lot fence side share", "other_rows": "plain ratio"},
+    "check_near": {"shows_near": "lot ratio value"},
+    "motions": {"carried": "lot fence vector", "blown": "lot fence spot share", "pushed": "lot fence side share"},
+    "emptied": {"Emptied": "pairs", "Left": "rows", "emptied": "lot fence spot share ratio"},
+    "check_emptied": {"shows_emptied": "lot fence spot share ratio value"},
+    "hinges": {"Hinged": "rows", "Loose": "q image", "spot_of": "lot at share", "judged_hinges": "lot at share turn",
+               "hinge_sums": "hinged"},
+    "check_hinges": {"shows_hinges": "lot at share turn value"},
+    "pictures": {"box_of": "lot", "picture": "lot frames wide high"},
+    "reader": {"words_of": "line", "read_line": "line"},
+    "desk": {"Desk": "", "Desk.do": "line", "Desk.do_all": "lines"},
 }
 
 

@@ -16,7 +16,7 @@ METHODS = set("append clear copy count endswith extend find get index insert isa
 SPECIAL = {"__init__", "__eq__", "__len__", "__bool__", "__contains__"}
 BARRED = (ast.Lambda, ast.GeneratorExp, ast.Div, ast.Global, ast.Nonlocal, ast.Await, ast.AsyncFunctionDef, ast.AsyncFor,
           ast.AsyncWith, ast.Yield, ast.YieldFrom, ast.Match, ast.With, ast.AnnAssign, ast.NamedExpr, ast.Set,
-          ast.SetComp, ast.Delete, ast.Try)
+          ast.SetComp, ast.Delete)
 WORDS = {"type", "typing", "enum", "Enum", "Generic", "Protocol", "ABC", "namedtuple", "dataclass", "overload", "register", "mro",
          "elements", "open", "input", "law", "args", "_wall"}
 
@@ -70,10 +70,21 @@ class LanguageTest(unittest.TestCase):
                 if isinstance(node, ast.Constant):
                     self.assertNotIsInstance(node.value, (float, complex, bytes), name)
                     self.assertNotIn("%", str(node.value), name)
+                if isinstance(node, ast.Try):
+                    self.check_try(node, name)
                 if isinstance(node, ast.Raise):
                     self.assertTrue(isinstance(node.exc, ast.Call) and isinstance(node.exc.func, ast.Name), name)
                 if isinstance(node, ast.Compare) and isinstance(node.ops[0], (ast.Is, ast.IsNot)):
                     self.assertTrue(isinstance(node.comparators[0], (ast.Constant, ast.Call)), name)
+
+    def check_try(self, node, name):
+        """One call of an own function, and handlers of own errors, which are not named."""
+        self.assertEqual((len(node.body), node.orelse, node.finalbody), (1, [], []), name)
+        for handler in node.handlers:
+            self.assertIsNone(handler.name, name)
+            kinds = handler.type.elts if isinstance(handler.type, ast.Tuple) else [handler.type]
+            for kind in kinds:
+                self.assertIn("class " + kind.id + "(OddError)", self.texts["errors"], name)
 
     def test_module_level(self):
         for name, tree in self.trees.items():

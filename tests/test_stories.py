@@ -222,7 +222,23 @@ class ShowsStoryTest(Raises, unittest.TestCase):
                     right = shows_story(lot, 0, [one, other], Halted(step, getattr(told, "why", None)))
                     self.assertIs(right, not told and step == told.step)
                 found = found or (not told and told.step == 1)
+                if not told:
+                    self.check_jams(lot, [one, other], told)
         self.assertIs(found, True)
+
+    def check_jams(self, lot, cuts, told):
+        """Each right Jammed of the step that is told is taken, and no other one."""
+        why = told.why
+        films = StoryTest.own_films(self, lot, 0, cuts)[0]
+        for moment in ((1, 3), why.moment):
+            for posts in (why.posts, why.posts[2:] + why.posts[:2], why.posts[::-1]):
+                value = Jammed(moment, posts)
+                self.check(lot, 0, cuts, Halted(told.step, value), shows_lives(films[told.step], 1, value))
+        self.check(lot, 0, cuts, Halted(1 - told.step, why), False)
+        for posts in readings(why.posts, 1):
+            self.check(lot, 0, cuts, Halted(told.step, Jammed(in_lists(why.moment), in_lists(posts))), True)
+        self.check(lot, 0, cuts, Halted(told.step, judged_lives(films[1 - told.step], 1)), False)
+        self.check(lot, 0, cuts, Story([], [], []), False)
 
     def test_no_papers(self):
         class Other(Story):
