@@ -3,6 +3,7 @@
 from oddsquares.arguments import ratio_in
 from oddsquares.arithmetic import ONE
 from oddsquares.errors import Misfit, TooMany
+from oddsquares.fours import on_four
 from oddsquares.judged import judged
 from oddsquares.lot_arguments import check_lot
 from oddsquares.papers import Denial, Paper
@@ -65,6 +66,15 @@ def near(lot, ratio):
     return _told(squares, judged(lot, size))
 
 
+def _stand_beside(lot, squares, ratio):
+    """Whether frames of the ratio stand on the fours of all squares, told from p0 and p1: they do if it is near."""
+    for _, four, _, _ in squares:
+        for told in (four, four[1:] + four[:1]):
+            if not on_four(lot, told, ratio):
+                return False
+    return True
+
+
 def near_ratio(lot):
     """The first of 1 + 1/2, 1 + 1/4, 1 + 1/8, .. that is near for the lot."""
     squares = judged(lot, ONE)
@@ -72,6 +82,8 @@ def near_ratio(lot):
         raise Misfit("lot")
     for halving in range(1, MOST_HALVINGS + 1):
         under = 1 << halving
-        if _told(squares, judged(lot, (under + 1, under))):
-            return (under + 1, under)
+        ratio = (under + 1, under)
+        # Most ratios that are not near are ruled out without going through all fours.
+        if _stand_beside(lot, squares.rows, ratio) and _told(squares, judged(lot, ratio)):
+            return ratio
     raise TooMany("halvings", MOST_HALVINGS)

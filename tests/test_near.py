@@ -7,8 +7,9 @@ from oddsquares.judged import Barred, judged
 from oddsquares.likelots import with_straight
 from oddsquares.lots import Lot
 from oddsquares.near import Far, Near, near, near_ratio
+from oddsquares.nudged import nudged
 from oddsquares.papers import Denial, Paper
-from tests.shapes import DENT, KITE, STRAIGHT, TRI, cell, star
+from tests.shapes import DENT, KITE, STRAIGHT, TRI, cell, comb, nested, star
 from tests.told import BENT, LARGE, RING, lot_of, moved
 from tests.values import NO_RATIOS, Raises, in_lists
 
@@ -170,6 +171,18 @@ class NearRatioTest(Raises, unittest.TestCase):
     def test_16_sides(self):
         self.check(lot_of(star(16, 9)))
         self.check(lot_of(star(8, 9), star(8, 9, (3, 30), 4)))
+
+    def test_nudged_boxes(self):
+        # Nearly not plain: many squares, and many halvings.
+        self.assertGreater(self.check(nudged(lot_of(cell(0, 0)), 1, (1, 10 ** 12))), 40)
+        self.assertGreater(self.check(nudged(lot_of(cell(0, 0), cell(2, 1, 1)), 1, (1, 10 ** 6))), 20)
+        for rows in (nested(4), (comb(7)[:16],)):
+            lot = nudged(lot_of(*rows), 1, (1, 10 ** 12))
+            told = near_ratio(lot)
+            self.assertIs(bool(near(lot, told)), True)
+            self.assertIs(bool(near(lot, (told[0] + told[1], 2 * told[1]))), True)
+            self.assertIs(bool(near(lot, ((told[1] >> 1) + 1, told[1] >> 1))), False)
+            self.check_raises(TooMany, {"what": "halvings", "most": 60}, near_ratio, nudged(lot_of(*rows), 1, (1, 10 ** 20)))
 
     def test_errors(self):
         for bad in NO_LOTS:
