@@ -3,9 +3,8 @@
 from oddsquares.arguments import inner_share_in
 from oddsquares.arithmetic import negative, quotient, sign
 from oddsquares.checks import is_integer, is_pair, is_point, is_row, is_within
-from oddsquares.errors import BadNumber, BadPaper, BadSides, TooMany
+from oddsquares.errors import BadNumber, BadPaper, TooMany
 from oddsquares.lot_arguments import check_lot
-from oddsquares.lots import is_side
 from oddsquares.papers import Denial, Paper
 from oddsquares.segments import common_point
 from oddsquares.vectors import cross_of, dot_of, joined, moved, point_of, stretched, turned, way_between
@@ -32,8 +31,6 @@ class Loose(Denial):
 def spot_of(lot, at, share):
     """The point that has this share of the way along a side."""
     check_lot(lot)
-    if not is_side(lot, at):
-        raise BadSides("at")
     start, end = lot.side(at)
     return moved(start, way_between(start, end), inner_share_in(share))
 

@@ -159,14 +159,16 @@ class NearRatioTest(Raises, unittest.TestCase):
 
     def test_the_last_halving(self):
         found = set()
-        for part in (20, 40, 80, 160, 320, 640):
+        for part in (20, 40, 60, 80, 100, 120, 140, 160, 320):
             share = Fraction(1, 7) + Fraction(part, 10 ** 21)
             lot = with_straight(lot_of(TRI), 0, 0, (share.numerator, share.denominator))
-            try:
-                found.add(near_ratio(lot))
-            except TooMany:
-                found.add(None)
-        self.assertLessEqual({(2 ** 60 + 1, 2 ** 60), (2 ** 59 + 1, 2 ** 59), None}, found)
+            first = min(k for k in range(50, 70) if near(lot, (2 ** k + 1, 2 ** k)))
+            found.add(first)
+            if first > 60:
+                self.check_raises(TooMany, {"what": "halvings", "most": 60}, near_ratio, lot)
+            else:
+                self.assertEqual(near_ratio(lot), (2 ** first + 1, 2 ** first))
+        self.assertLessEqual({59, 60, 61}, found)
 
     def test_16_sides(self):
         self.check(lot_of(star(16, 9)))

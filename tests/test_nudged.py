@@ -151,6 +151,13 @@ class NudgedTest(Raises, unittest.TestCase):
         self.assertIsNone(self.check(lot, 1, 10 ** 30))
         self.assertIsNone(nudged(lot, 2, 10 ** 30))
 
+    def test_try_20_is_the_last_one(self):
+        lot = lot_of(*nested(4))
+        self.assertEqual(self.check(lot, 1, 2 ** 20), 20)
+        # Here try 21 would be the first one that leaves a plain lot.
+        self.assertIs(bool(judged(with_corners(lot, own_moves(lot, 21, 2 ** 21)), 1)), True)
+        self.assertIsNone(self.check(lot, 1, 2 ** 21))
+
     def test_corners_are_counted_through(self):
         # The second fence alone is not plain: its corners are moved as those from 3 on.
         lot = lot_of(TRI, moved(RIGHT, 9, 0))
